@@ -1,0 +1,1 @@
+"""Latestart: material requirements planning that starts every lot as late as can be."""
