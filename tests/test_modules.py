@@ -14,6 +14,10 @@ INTERFACE = {
                "InvalidBytes", "NothingToUndo", "TooMany"),
     "tokens": ("tokens",),
     "bills": ("read_bill", "item_named"),
+    "writing": ("write_bill",),
+    "levels": ("parents_first", "used_by", "whole_lead"),
+    "books": ("check_books", "check_plan", "supplied", "ordered"),
+    "balances": ("started", "balance", "last_day", "shortages", "works"),
 }
 
 
