@@ -18,6 +18,9 @@ INTERFACE = {
     "levels": ("parents_first", "used_by", "whole_lead"),
     "books": ("check_books", "check_plan", "supplied", "ordered"),
     "balances": ("started", "balance", "last_day", "shortages", "works"),
+    "needs": ("needed", "needed_by"),
+    "latest": ("can_work", "latest_plan", "starts_today"),
+    "papers": ("paper_of",),
 }
 
 
