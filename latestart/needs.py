@@ -19,18 +19,28 @@ def needed_by(needs, item, day):
 
 def needed_of(bill, books, needs, item):
     """The pairs (day, lots) of an item, where needs has those of all items that use it."""
-    lead, good = bill[item][2], bill[item][4]
+    return lots_for(bill, item, unmade(bill, books, needs, item))
+
+
+def unmade(bill, books, needs, item):
+    """The pairs (day, balance) of an item if no lots of it are started, where needs has all that use it."""
     starts = [(user, day, lots) for user, _ in used_by(bill, item) for day, lots in steps(needs[user])]
-    pairs = []
+    # None of these starts is one of the item itself.
+    return course(bill, books, starts, item)
+
+
+def lots_for(bill, item, pairs):
+    """The pairs (day, lots) of an item that has these pairs (day, balance) if no lots of it are started."""
+    lead, good = bill[item][2], bill[item][4]
+    found = []
     most = 0
-    # None of these starts is one of the item itself, so its own lots have to yield what its balance lacks.
-    for day, left in course(bill, books, starts, item):
+    for day, left in pairs:
         # The lack divided by the yield, rounded up.
         lots = -(left // good)
         if lots > most:
-            pairs.append((day - lead, lots))
+            found.append((day - lead, lots))
             most = lots
-    return tuple(pairs)
+    return tuple(found)
 
 
 def steps(pairs):

@@ -6,5 +6,9 @@ from latestart.needs import needed
 
 def paper_of(bill, books):
     """The list of the facts (item, day, lots), parents first, by rising days."""
-    needs = needed(bill, books)
+    return facts_of(bill, needed(bill, books))
+
+
+def facts_of(bill, needs):
+    """The paper with these needed lots."""
     return [(item, day, lots) for item in parents_first(bill) for day, lots in needs[item]]

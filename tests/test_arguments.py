@@ -1,18 +1,23 @@
 """Basics: no function modifies its arguments, and what a function returns is new each time."""
 
 import copy
+import random
 import unittest
 
 from latestart.balances import balance, last_day, shortages, started, works
 from latestart.books import check_books, check_plan, ordered, supplied
 from latestart.errors import PlanError
+from latestart.events import after_day, after_event
+from latestart.judge import first_wrong, follows, judge, shows_none
 from latestart.latest import can_work, latest_plan, starts_today
 from latestart.levels import parents_first, used_by, whole_lead
 from latestart.needs import needed, needed_by
 from latestart.papers import paper_of
+from latestart.pegging import pegs, rests_on, served, sources, takings
+from latestart.promises import first_day_paper, promise_all, promised_day, shows_first, with_order
 from latestart.writing import write_bill
 
-from tests.made_up import made_up_plans
+from tests.made_up import made_event, made_small, made_up_plans
 
 # Each with the arguments that it takes, by their names in the interface.
 CALLS = (
@@ -35,18 +40,52 @@ CALLS = (
     (latest_plan, ("bill", "books")),
     (starts_today, ("bill", "books")),
     (paper_of, ("bill", "books")),
+    (follows, ("bill", "books", "facts", "fact")),
+    (first_wrong, ("bill", "books", "paper")),
+    (shows_none, ("bill", "books", "paper")),
+    (judge, ("bill", "books", "plan", "paper")),
+    (with_order, ("books", "number", "item", "quantity", "day")),
+    (promised_day, ("bill", "books", "number", "item", "quantity")),
+    (promise_all, ("bill", "books", "asked")),
+    (first_day_paper, ("bill", "books", "number", "item", "quantity")),
+    (shows_first, ("bill", "books", "number", "item", "quantity", "day", "paper")),
+    (sources, ("bill", "books", "plan", "item")),
+    (takings, ("bill", "books", "plan", "item")),
+    (pegs, ("bill", "books", "plan", "item")),
+    (served, ("bill", "books", "plan", "item", "day")),
+    (rests_on, ("bill", "books", "plan", "number")),
+    (after_day, ("bill", "books")),
+    (after_event, ("bill", "books", "event")),
 )
+
+# Those that return lists, be it within tuples.
+LISTS = ("used_by", "shortages", "starts_today", "paper_of", "promise_all", "first_day_paper", "sources", "takings",
+         "pegs", "served", "rests_on")
+
+
+def with_plans(many):
+    """Yields bills and books, with plans that do not work and with such that do."""
+    yield from made_up_plans(many, "arguments")
+    for bill, books in made_small(many, "arguments"):
+        yield bill, books, latest_plan(bill, books) if can_work(bill, books) else ()
 
 
 def calls(many):
     """Yields functions with lists of arguments."""
-    for at, (bill, books, plan) in enumerate(made_up_plans(many, "arguments")):
-        needs = needed(bill, books)
+    chance = random.Random("arguments")
+    for bill, books, plan in with_plans(many):
+        paper = paper_of(bill, books)
         for item in range(len(bill)):
-            given = {"bill": bill, "books": books, "plan": plan, "needs": needs, "item": item,
-                     "day": books[0] + at % 9}
+            asked = [(chance.randint(1, 99), item, chance.randint(1, 9)) for _ in range(3)]
+            given = {"bill": bill, "books": books, "plan": plan, "needs": needed(bill, books), "item": item,
+                     "day": books[0] + 1 + chance.randint(0, 8), "paper": paper, "facts": paper[:-1],
+                     "fact": paper[-1] if paper else (item, books[0], 1), "number": chance.randint(1, 99),
+                     "quantity": chance.randint(1, 20), "asked": asked, "event": made_event(chance, bill, books)}
+            if books[3] and chance.random() < 0.5:
+                given["number"] = books[3][0][0]
             for function, names in CALLS:
-                yield function, [given[name] for name in names]
+                # Each call has arguments of its own, so that none is spoiled by what another one does with them.
+                yield function, copy.deepcopy([given[name] for name in names])
 
 
 def outcome(function, arguments):
@@ -78,16 +117,27 @@ class Returned(unittest.TestCase):
                 self.assertEqual(outcome(function, arguments), outcome(function, copy.deepcopy(arguments)))
 
     def test_a_list_is_new_each_time(self):
-        lists = set()
+        found = set()
         for function, arguments in calls(30):
             first = outcome(function, arguments)
-            if isinstance(first, list):
-                lists.add(function.__name__)
-                kept = list(first)
-                first.append("more")
+            kept = copy.deepcopy(first)
+            if spoil(first):
+                found.add(function.__name__)
                 with self.subTest(function=function.__name__, arguments=arguments):
                     self.assertEqual(outcome(function, arguments), kept)
-        self.assertEqual(lists, {"used_by", "shortages", "starts_today", "paper_of"})
+        self.assertEqual(found, set(LISTS))
+
+
+def spoil(value):
+    """Changes all lists within a value; True if there is one."""
+    found = False
+    if isinstance(value, (list, tuple)):
+        for part in value:
+            found = spoil(part) or found
+    if isinstance(value, list):
+        value.append("more")
+        found = True
+    return found
 
 
 if __name__ == "__main__":

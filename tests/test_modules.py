@@ -21,6 +21,10 @@ INTERFACE = {
     "needs": ("needed", "needed_by"),
     "latest": ("can_work", "latest_plan", "starts_today"),
     "papers": ("paper_of",),
+    "judge": ("follows", "first_wrong", "shows_none", "judge"),
+    "promises": ("with_order", "promised_day", "promise_all", "first_day_paper", "shows_first"),
+    "pegging": ("sources", "takings", "pegs", "served", "rests_on"),
+    "events": ("after_day", "after_event"),
 }
 
 
