@@ -75,14 +75,15 @@ def pegs_of(bill, books, plan, item):
     # How many pieces of the source at this index are given away already.
     gone = 0
     found = []
-    for _, taking, missing in takings_of(bill, books, plan, item):
+    for _, taking, pieces in takings_of(bill, books, plan, item):
+        missing = pieces
         while missing > 0:
-            _, source, pieces = rows[at]
-            given = min(missing, pieces - gone)
+            _, source, here = rows[at]
+            given = min(missing, here - gone)
             found.append((taking, source, given))
             missing -= given
             gone += given
-            if gone == pieces:
+            if gone == here:
                 at += 1
                 gone = 0
     return found

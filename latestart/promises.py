@@ -32,13 +32,14 @@ def promised_day(bill, books, number, item, quantity):
 
 def promise_all(bill, books, asked):
     """The list of the promised days of orders (number, item, quantity), or None, and the books with all of them."""
+    behind = books
     days = []
     for number, item, quantity in asked:
-        day = day_or_none(bill, books, number, item, quantity)
-        days.append(day)
+        day = day_or_none(bill, behind, number, item, quantity)
         if day is not None:
-            books = with_order(books, number, item, quantity, day)
-    return days, books
+            behind = with_order(behind, number, item, quantity, day)
+        days.append(day)
+    return days, behind
 
 
 def first_day_paper(bill, books, number, item, quantity):

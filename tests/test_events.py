@@ -306,7 +306,8 @@ class RefusedDays(unittest.TestCase):
 
     def test_more_than_500_pieces_of_a_receipt(self):
         bill = read_bill("a: ; 1 days; 50 yields 50\nb: 20 a; 0 days; 50 yields 1")
-        self.assertEqual(after_day(bill, (0, (0, 0), (), ((1, 0, 451, 1),))), (1, (0, 0), ((0, 1, 500),), ((1, 0, 451, 1),)))
+        orders = ((1, 0, 451, 1),)
+        self.assertEqual(after_day(bill, (0, (0, 0), (), orders)), (1, (0, 0), ((0, 1, 500),), orders))
         self.expect(bill, (0, (0, 0), (), ((1, 0, 500, 1), (2, 0, 1, 1))), "receipts")
 
     def test_more_than_10000_in_stock(self):

@@ -9,6 +9,7 @@ from latestart.books import check_plan
 from latestart.errors import NoPlan
 from latestart.latest import can_work, latest_plan, starts_today
 
+from tests.asking import plan_or_none
 from tests.by_days import HIGH, lots_by_days
 from tests.made_up import made_up
 
@@ -23,13 +24,6 @@ SMALL_BILLS = tuple(read_bill(text) for text in (
     "a: 2 b; 1 days; 2 yields 1\nb: ; 1 days; 3 yields 3",
     "a: b; 1 days; 1 yields 1\nb: ; 0 days; 2 yields 1",
 ))
-
-
-def plan_or_none(bill, books):
-    try:
-        return latest_plan(bill, books)
-    except NoPlan:
-        return None
 
 
 def small_books(bill):

@@ -25,6 +25,11 @@ INTERFACE = {
     "promises": ("with_order", "promised_day", "promise_all", "first_day_paper", "shows_first"),
     "pegging": ("sources", "takings", "pegs", "served", "rests_on"),
     "events": ("after_day", "after_event"),
+    "helping": ("helped", "is_enough", "help_from_above", "least_help"),
+    "desk": ("Desk",),
+    "alike": ("taken_by_lot", "are_alike", "parting_books"),
+    "logs": ("number_bytes", "read_number", "record_of", "read_record", "event_bytes", "start_bytes", "log_of",
+             "opened"),
 }
 
 
@@ -42,6 +47,20 @@ class Files(unittest.TestCase):
         entries = sorted(path.name for path in PACKAGE.iterdir() if path.name != "__pycache__")
         self.assertEqual(entries, sorted([f"{name}.py" for name in files()] + ["__init__.py"]))
         self.assertEqual([name for name in files() if name not in ORDER], [])
+
+    def test_all_files_are_there(self):
+        self.assertEqual(files(), sorted(ORDER))
+        self.assertEqual(sorted(INTERFACE), sorted(set(ORDER)))
+
+    def test_the_methods_of_the_interface_are_defined_in_the_class_itself(self):
+        body = ast.parse(text_of("desk")).body
+        desk = [node for node in body if isinstance(node, ast.ClassDef) and node.name == "Desk"][0]
+        found = {node.name: [argument.arg for argument in node.args.args] for node in desk.body
+                 if isinstance(node, ast.FunctionDef)}
+        self.assertEqual(found, {"__init__": ["self", "bill", "books"], "take": ["self", "event"],
+                                 "look": ["self", "events"],
+                                 **{name: ["self"] for name in ("bill", "books", "needs", "can_work", "plan", "paper",
+                                                                "undo", "work")}})
 
     def test_each_name_of_the_interface_is_defined_in_its_file(self):
         for name, defined in INTERFACE.items():

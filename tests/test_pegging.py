@@ -18,8 +18,8 @@ BOOKS = (0, (3, 0), (), ((1, 1, 1, 4), (2, 1, 1, 6)))
 PLAN = ((0, 1, 1), (1, 2, 1), (1, 4, 1))
 
 # Two items that use one, and one that uses these two.
-LEVELS = read_bill("nut: ; 1 days; 5 yields 4\nbolt: 2 nut; 0 days; 3 yields 2\nplate: nut, bolt, nut; 2 days; 1 yields 1\n"
-                   "shelf: bolt, 2 plate; 1 days; 1 yields 1")
+LEVELS = read_bill("nut: ; 1 days; 5 yields 4\nbolt: 2 nut; 0 days; 3 yields 2\n"
+                   "plate: nut, bolt, nut; 2 days; 1 yields 1\nshelf: bolt, 2 plate; 1 days; 1 yields 1")
 
 
 def pieces_one_by_one(bill, books, plan, item):
@@ -161,7 +161,8 @@ class Pegs(unittest.TestCase):
         bill = read_bill("a: ; 0 days; 2 yields 2\nb: 3 a; 0 days; 1 yields 1")
         books = (1, (0, 0), (), ((1, 1, 2, 1), (2, 0, 1, 1)))
         plan = ((0, 1, 4), (1, 1, 2))
-        self.assertEqual(pegs(bill, books, plan, 0), [(("order", 2), ("start", 1), 1), (("start", 1, 1), ("start", 1), 6)])
+        self.assertEqual(pegs(bill, books, plan, 0), [
+            (("order", 2), ("start", 1), 1), (("start", 1, 1), ("start", 1), 6)])
         self.assertEqual(pegs(bill, books, plan, 1), [(("order", 1), ("start", 1), 2)])
 
     def test_no_takings_and_no_sources(self):
