@@ -45,6 +45,7 @@ def least_help(bill, books, most):
 
 def least_within(bill, books, limit):
     """The least help; None if it has more than so many pieces."""
+    # A row is (pieces in all, help, needed lots) for the items taken so far; the others have no help yet.
     rows = [(0, (0,) * len(bill), ((),) * len(bill))] if limit >= 0 else []
     order = parents_first(bill)
     for at, item in enumerate(order):
@@ -69,6 +70,7 @@ def rows_with(bill, books, row, item, waiting, limit):
 
 def choices(bill, books, item, pairs, limit):
     """The pairs (help, needed lots) of an item: the fewest pieces, and those with which fewer lots are needed."""
+    # With any other number of pieces, a piece less would be enough, too, so it is no part of the least help.
     found = []
     for pieces in range(fewest(bill, books, item, pairs), limit + 1):
         lots = lots_for(bill, item, raised(pairs, pieces))
@@ -97,6 +99,7 @@ def least_more(bill, books, needs, waiting, most):
 
 def first_rows(rows):
     """Of all rows with the same needed lots the first one, with the fewest pieces."""
+    # The waiting items lack the same for each of them, so the others cannot become the least help.
     best = {}
     for row in rows:
         if row[2] not in best or row < best[row[2]]:
